@@ -1,32 +1,10 @@
 """The guest's steps: each kind a class of its own, right under Step."""
 
-KIND_NUMBERS = {
-    "stop": 0,
-    "put": 1,
-    "copy": 2,
-    "add": 3,
-    "sub": 4,
-    "and": 5,
-    "or": 6,
-    "xor": 7,
-    "cmp": 8,
-    "addc": 9,
-    "subc": 10,
-    "addk": 11,
-    "cmpk": 12,
-    "more": 13,
-    "fewer": 14,
-    "left": 15,
-    "right": 16,
-    "not": 17,
-    "get": 18,
-    "set": 19,
-    "send": 20,
-    "jump": 21,
-    "jumpif": 22,
-    "go": 23,
-    "mark": 24,
-}
+# Each kind's word; its place here is the kind's number.
+KIND_WORDS = (
+    "stop", "put", "copy", "add", "sub", "and", "or", "xor", "cmp", "addc", "subc", "addk", "cmpk",
+    "more", "fewer", "left", "right", "not", "get", "set", "send", "jump", "jumpif", "go", "mark",
+)
 
 
 def bytes_of(numbers):
@@ -55,7 +33,7 @@ class Step:
 
     def code(self, width):
         """The step's bytes at the width, a new list each time."""
-        return [8 * KIND_NUMBERS[self.word()] + self.low()] + self.tail(width)
+        return [8 * KIND_WORDS.index(self.word()) + self.low()] + self.tail(width)
 
     def low(self):
         """What the first byte holds beside the kind's number."""

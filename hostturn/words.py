@@ -17,6 +17,16 @@ USED = {
 }
 
 
+def is_between(thing, least, greatest):
+    """True just where the thing is a whole number, and no truth, of these bounds."""
+    return isinstance(thing, int) and not isinstance(thing, bool) and least <= thing <= greatest
+
+
+def is_number(width, thing):
+    """True just where the thing is a number of the width."""
+    return is_between(thing, 0, SPANS[width] - 1)
+
+
 def fit(width, number):
     """The number of the width that is the same but for a multiple of what the width holds."""
     return number % SPANS[width]

@@ -206,6 +206,56 @@ class Names(unittest.TestCase):
         taken = {name for kind in PYTHONS_VALUES for name in dir(kind)}
         self.assertEqual((methods - SPECIAL) & taken - METHODS - {"add", "discard"}, set())
 
+    def test_no_local_is_called_like_a_class_or_an_import_of_its_file(self):
+        for path, tree in TREES:
+            held = {name for node in tree.body if isinstance(node, (ast.ClassDef, ast.ImportFrom))
+                    for name in bound_names(node)}
+            for node in ast.walk(tree):
+                if isinstance(node, (ast.Name, ast.arg)):
+                    self.assertEqual(set(bound_names(node)) & held, set(), f"{path.name}:{node.lineno}")
+
+
+class Uses(unittest.TestCase):
+    """How classes, sets, and the lists and dicts of a file's top are used."""
+
+    def uses(self, names):
+        """Each reading of one of the names: where, its name, the node that holds it."""
+        for path, tree in TREES:
+            for above in ast.walk(tree):
+                for node in ast.iter_child_nodes(above):
+                    if isinstance(node, ast.Name) and isinstance(node.ctx, ast.Load) and node.id in names:
+                        yield f"{path.name}:{node.lineno}", node, above
+
+    def test_a_class_is_not_kept_or_handed_on(self):
+        classes = {node.name for where, node in nodes() if isinstance(node, ast.ClassDef)}
+        for where, node, above in self.uses(classes):
+            called = isinstance(above, ast.Call) and above.func is node
+            looked = isinstance(above, ast.Call) and getattr(above.func, "id", "") == "isinstance"
+            through = isinstance(above, ast.Attribute) and above.attr == "__init__"
+            other = isinstance(above, (ast.ClassDef, ast.ExceptHandler))
+            self.assertTrue(called or looked or through or other, where)
+
+    def test_a_set_is_not_kept_or_walked(self):
+        makings = {id(above) for where, node, above in self.uses({"set", "frozenset"})}
+        for where, above in nodes():
+            for node in ast.iter_child_nodes(above):
+                if id(node) in makings:
+                    within = isinstance(above, ast.Call) and getattr(above.func, "id", "") in ("sorted", "len")
+                    self.assertTrue(within or isinstance(above, (ast.Compare, ast.BinOp)), where)
+
+    def test_what_a_files_top_keeps_is_only_read(self):
+        kept = {target.id for path, tree in TREES for node in tree.body if isinstance(node, ast.Assign)
+                for target in node.targets if isinstance(node.value, (ast.List, ast.Dict))}
+        for where, node, above in self.uses(kept):
+            if isinstance(above, ast.Subscript):
+                self.assertIsInstance(above.ctx, ast.Load, where)
+            elif isinstance(above, ast.Attribute):
+                self.assertIn(above.attr, {"get", "items", "keys", "values"}, where)
+            elif isinstance(above, ast.Call):
+                self.assertIn(getattr(above.func, "id", ""), {"len", "list", "dict", "sorted"}, where)
+            else:
+                self.assertIsInstance(above, (ast.Compare, ast.For, ast.comprehension), where)
+
 
 if __name__ == "__main__":
     unittest.main()

@@ -1,6 +1,5 @@
 """Stage 2, [2.1] to [2.3], and [0.2]: the steps, their words, texts, codes and sizes."""
 
-import itertools
 import unittest
 
 from hostturn import steps
@@ -8,21 +7,7 @@ from hostturn.steps import (
     Add, AddC, AddK, And, Cmp, CmpK, Copy, Fewer, Get, Go, Jump, JumpIf, Left, Mark, More, Not,
     Or, Put, Right, Send, Set, Step, Stop, Sub, SubC, Xor,
 )
-
-WIDTHS = (8, 16, 32)
-LEAPS = (-128, -127, -2, -1, 0, 1, 2, 126, 127)
-GREATEST = {8: 255, 16: 65535, 32: 4294967295}
-
-# Each kind, in the order of its number: class, word, and what its numbers are.
-FORMS = (
-    (Stop, "stop", ""), (Put, "put", "rK"), (Copy, "copy", "rs"), (Add, "add", "rs"),
-    (Sub, "sub", "rs"), (And, "and", "rs"), (Or, "or", "rs"), (Xor, "xor", "rs"),
-    (Cmp, "cmp", "rs"), (AddC, "addc", "rs"), (SubC, "subc", "rs"), (AddK, "addk", "rd"),
-    (CmpK, "cmpk", "rd"), (More, "more", "r"), (Fewer, "fewer", "r"), (Left, "left", "r"),
-    (Right, "right", "r"), (Not, "not", "r"), (Get, "get", "rsd"), (Set, "set", "rsd"),
-    (Send, "send", "r"), (Jump, "jump", "d"), (JumpIf, "jumpif", "rd"), (Go, "go", "r"),
-    (Mark, "mark", "rs"),
-)
+from samples import FORMS, WIDTHS, samples, wanted_code
 
 # A step of each kind written out: class, numbers, text, and its code at 16 bits.
 WRITTEN = (
@@ -52,36 +37,6 @@ WRITTEN = (
     (Go, [2], "go 2", [186]),
     (Mark, [3, 6], "mark 3 6", [195, 6]),
 )
-
-
-def choices(sort, width):
-    """Numbers that may stand for one letter of a form."""
-    if sort == "K":
-        greatest = GREATEST[width]
-        edges = {0, 1, 127, 128, 255, greatest // 2, greatest // 2 + 1, greatest - 1, greatest}
-        return tuple(sorted(edges))
-    return LEAPS if sort == "d" else tuple(range(8))
-
-
-def samples(width):
-    """Every step of each form with boxes, asks, leaps and K of the choices."""
-    for number, (kind, word, form) in enumerate(FORMS):
-        for numbers in itertools.product(*(choices(sort, width) for sort in form)):
-            yield number, kind, word, form, list(numbers)
-
-
-def wanted_code(width, number, form, numbers):
-    """A step's code once more, from its form."""
-    low = numbers[0] if form[:1] == "r" else 0
-    code = bytes([8 * number + low])
-    for sort, part in zip(form, numbers):
-        if sort == "K":
-            code += part.to_bytes(width // 8, "little")
-        elif sort == "d":
-            code += part.to_bytes(1, "little", signed=True)
-        elif sort == "s":
-            code += bytes([part])
-    return list(code)
 
 
 class Classes(unittest.TestCase):

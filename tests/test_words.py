@@ -4,38 +4,9 @@ import itertools
 import unittest
 
 from hostturn.words import KINDS, asked, fit, marks_of, reckoned, signed, used
+from samples import ALL_MARKS, WIDTHS, Whole, edges, is_whole, patterns
 
-WIDTHS = (8, 16, 32)
-ALL_MARKS = list(itertools.product((0, 1), repeat=4))
 OPERANDS = ("add", "sub", "and", "or", "xor")
-
-
-def edges(width):
-    """Numbers of the width: around 0, around the edge of the sign, and around the greatest."""
-    half = 2 ** (width - 1)
-    return [0, 1, 2, 3, half // 2, half - 2, half - 1, half, half + 1, 2 * half - 2, 2 * half - 1]
-
-
-def patterns(width):
-    """Edges, and numbers with bits here and there."""
-    return edges(width) + [0x5A5A5A5A % 2 ** width, 0xC33C9669 % 2 ** width]
-
-
-def is_whole(number):
-    return isinstance(number, int) and not isinstance(number, bool)
-
-
-class Whole(unittest.TestCase):
-    def assertWhole(self, told, wanted):
-        """Equal, and no truth in the place of a number."""
-        self.assertEqual(told, wanted)
-        self.assertTrue(is_whole(told), repr(told))
-
-    def assertMarks(self, told, wanted):
-        self.assertIsInstance(told, tuple)
-        self.assertEqual(told, wanted)
-        for mark in told:
-            self.assertTrue(is_whole(mark), repr(told))
 
 
 class Fit(Whole):
