@@ -2,9 +2,7 @@
 
 from hostturn.codes import step_at
 from hostturn.guest import ask_of, fault_at
-from hostturn.words import fit, reckoned
-
-CARRY = 4
+from hostturn.words import CARRY, fit, reckoned
 
 # The kind of record that each word which adds or takes away makes.
 SUM_KINDS = {

@@ -5,6 +5,9 @@ KINDS = ("bits", "sum", "less", "logic", "left", "right", "more", "fewer")
 # How many numbers a width has: these are written out, as no power of a named number may stand here.
 SPANS = {8: 256, 16: 65536, 32: 4294967296}
 
+# The ask that tells the carry.
+CARRY = 4
+
 USED = {
     "bits": (0,),
     "sum": (0, 1, 2),

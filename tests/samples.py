@@ -3,6 +3,7 @@
 import itertools
 import unittest
 
+from hostturn.guest import Guest
 from hostturn.steps import (
     Add, AddC, AddK, And, Cmp, CmpK, Copy, Fewer, Get, Go, Jump, JumpIf, Left, Mark, More, Not,
     Or, Put, Right, Send, Set, Stop, Sub, SubC, Xor,
@@ -23,6 +24,22 @@ FORMS = (
     (Send, "send", "r"), (Jump, "jump", "d"), (JumpIf, "jumpif", "rd"), (Go, "go", "r"),
     (Mark, "mark", "rs"),
 )
+
+LAST_WORDS = ("jump", "jumpif", "go", "stop")
+
+# Each form of house row: its word, and what stands behind it.
+ROW_FORMS = (
+    ("put", "bK"), ("copy", "bb"), ("not", "bb"), ("left", "bb"), ("right", "bb"), ("add", "bbb"),
+    ("sub", "bbb"), ("and", "bbb"), ("or", "bbb"), ("xor", "bbb"), ("keep", "kbbb"), ("mark", "ba"),
+    ("get", "bbKnp"), ("set", "bKbnpp"), ("send", "b"), ("leave", "np"), ("part", "bnpp"), ("go", "bn"),
+    ("stop", "np"),
+)
+ENDS = ("leave", "part", "go", "stop")
+
+
+def greatest(sort, width):
+    """The greatest number that may stand for one letter of a form of house row."""
+    return {"b": 15, "a": 7, "n": 99, "p": 255, "K": GREATEST[width]}[sort]
 
 
 def edges(width):
@@ -78,14 +95,47 @@ def floor_with(code, place=0, rest=255):
     return floor
 
 
-def floor_of(width, *texts):
-    """A floor that has these steps from 0 on, their bytes reckoned from the forms above."""
+def code_of(width, *texts):
+    """The bytes of these steps, one behind the other, reckoned from the forms above."""
     code = []
     for text in texts:
         word, *numbers = text.split(" ")
         number = [form[1] for form in FORMS].index(word)
         code += wanted_code(width, number, FORMS[number][2], [int(part) for part in numbers])
-    return floor_with(code)
+    return code
+
+
+def floor_of(width, *texts):
+    """A floor that has these steps from 0 on."""
+    return floor_with(code_of(width, *texts))
+
+
+def drawn_text(draw, width, is_last):
+    """A drawn step's text, of a word that may stand as the last of a code alone or of another one."""
+    word, form = draw.choice([form[1:] for form in FORMS if (form[1] in LAST_WORDS) == is_last])
+    sorts = {"r": range(8), "s": range(8), "d": range(-128, 128), "K": choices("K", width)}
+    return " ".join([word] + [str(draw.choice(sorts[sort])) for sort in form])
+
+
+def drawn_texts(draw, width, many):
+    """So many drawn steps that make a code; of the last ones some go elsewhere."""
+    texts = [drawn_text(draw, width, False) for turn in range(many)]
+    if draw.randrange(3) > 0:
+        texts[-1] = drawn_text(draw, width, True)
+    return texts
+
+
+def drawn_guest(draw, width, code, place):
+    """A drawn guest that has the code at its place; its boxes often lead to the floor, and to the code."""
+    addresses = [0, 1, 15, 16, 254, 255, 256, 2 ** width - 1, place, place + len(code) - 1]
+    numbers = edges(width) + [address % 2 ** width for address in addresses]
+    boxes = [draw.choice(numbers) if draw.randrange(2) else draw.randrange(256) for turn in range(8)]
+    floor = floor_with(code, place)
+    for address in [*range(place), *range(place + len(code), 256)]:
+        floor[address] = draw.randrange(256)
+    wards = [draw.randrange(16) for turn in range(draw.choice((0, 0, 1, 5)))]
+    marks = tuple(draw.randrange(2) for turn in range(4))
+    return Guest(width, floor, boxes, marks, wards, place)
 
 
 class Whole(unittest.TestCase):

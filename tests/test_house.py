@@ -7,24 +7,12 @@ from hostturn.errors import BadRows, HostError
 from hostturn.guest import Guest
 from hostturn.house import check_rows, run_rows
 from hostturn.words import KINDS, marks_of
-from samples import ALL_MARKS, GREATEST, WIDTHS, Whole, edges, is_whole, patterns
+from samples import ALL_MARKS, ENDS, ROW_FORMS, WIDTHS, Whole, edges, greatest, is_whole, patterns
 
 FLOOR = [place * 7 % 256 for place in range(256)]
 
-# Each form: its word, and what stands behind it.
-FORMS = (
-    ("put", "bK"), ("copy", "bb"), ("not", "bb"), ("left", "bb"), ("right", "bb"), ("add", "bbb"),
-    ("sub", "bbb"), ("and", "bbb"), ("or", "bbb"), ("xor", "bbb"), ("keep", "kbbb"), ("mark", "ba"),
-    ("get", "bbKnp"), ("set", "bKbnpp"), ("send", "b"), ("leave", "np"), ("part", "bnpp"), ("go", "bn"),
-    ("stop", "np"),
-)
-ENDS = ("leave", "part", "go", "stop")
 LAST = ("leave", 0, 0)
 ODD = (None, True, False, "", "0", "sum", 0.0, 1.0, b"", [], [0], (), (0,), {}, {0: 0}, {0}, object(), int)
-
-
-def greatest(sort, width):
-    return {"b": 15, "a": 7, "n": 99, "p": 255, "K": GREATEST[width]}[sort]
 
 
 def row_of(word, form, number=0):
@@ -77,7 +65,7 @@ class Rows(Whole):
 
 class Forms(Rows):
     def test_each_part_at_its_bounds(self):
-        for width, (word, form) in itertools.product(WIDTHS, FORMS):
+        for width, (word, form) in itertools.product(WIDTHS, ROW_FORMS):
             self.right(width, self.whole(word, row_of(word, form)))
             for place, sort in enumerate(form, 1):
                 if sort == "k":
@@ -86,12 +74,12 @@ class Forms(Rows):
                     self.right(width, self.whole(word, with_part(row_of(word, form), place, part)))
 
     def test_all_parts_at_their_greatest(self):
-        for width, (word, form) in itertools.product(WIDTHS, FORMS):
+        for width, (word, form) in itertools.product(WIDTHS, ROW_FORMS):
             row = (word,) + tuple("fewer" if sort == "k" else greatest(sort, width) for sort in form)
             self.right(width, self.whole(word, row))
 
     def test_each_part_beyond_its_bounds(self):
-        for width, (word, form) in itertools.product(WIDTHS, FORMS):
+        for width, (word, form) in itertools.product(WIDTHS, ROW_FORMS):
             for place, sort in enumerate(form, 1):
                 if sort == "k":
                     continue
@@ -99,7 +87,7 @@ class Forms(Rows):
                     self.wrong_row(width, with_part(row_of(word, form), place, part))
 
     def test_each_part_of_other_kinds(self):
-        for width, (word, form) in itertools.product(WIDTHS, FORMS):
+        for width, (word, form) in itertools.product(WIDTHS, ROW_FORMS):
             for place, sort in enumerate(form, 1):
                 for part in ODD:
                     if sort != "k" or part != "sum":
@@ -120,7 +108,7 @@ class Forms(Rows):
             self.wrong_row(width, ("set", 0, number, 0, 0, 0, 0))
 
     def test_a_part_more_or_fewer(self):
-        for width, (word, form) in itertools.product(WIDTHS, FORMS):
+        for width, (word, form) in itertools.product(WIDTHS, ROW_FORMS):
             row = row_of(word, form)
             self.wrong_row(width, row[:-1])
             self.wrong_row(width, row + (0,))
@@ -145,7 +133,7 @@ class Forms(Rows):
 
 class Ends(Rows):
     def test_each_end_alone_at_the_end(self):
-        for width, (word, form) in itertools.product(WIDTHS, FORMS):
+        for width, (word, form) in itertools.product(WIDTHS, ROW_FORMS):
             row = row_of(word, form)
             if word in ENDS:
                 self.right(width, [row])
@@ -156,7 +144,7 @@ class Ends(Rows):
                 self.wrong(width, [("put", 1, 1)] * 99 + [row], 99)
 
     def test_an_end_amid(self):
-        for width, (word, form) in itertools.product(WIDTHS, FORMS):
+        for width, (word, form) in itertools.product(WIDTHS, ROW_FORMS):
             if word not in ENDS:
                 continue
             row = row_of(word, form)
