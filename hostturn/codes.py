@@ -1,16 +1,12 @@
 """Steps found again: from their texts, and from the bytes of a floor."""
 
 from hostturn.errors import NoStep
+from hostturn.figures import figured
 from hostturn.steps import (
     Add, AddC, AddK, And, Cmp, CmpK, Copy, Fewer, Get, Go, Jump, JumpIf, Left, Mark, More, Not,
     Or, Put, Right, Send, Set, Stop, Sub, SubC, Xor, KIND_WORDS,
 )
 from hostturn.words import is_between, is_number, signed
-
-FIGURES = "0123456789"
-
-# No number of a step has more figures than the greatest one of 32 bits.
-MOST_FIGURES = 10
 
 FLOOR_SIZE = 256
 
@@ -119,20 +115,6 @@ def is_step_number(width, sort, number):
 def are_step_numbers(width, form, numbers):
     """True just where each number may stand for its part of the form."""
     return all([is_step_number(width, sort, number) for sort, number in zip(form, numbers)])
-
-
-def figured(text):
-    """The number that is written so, in figures; None where none is."""
-    bare = text[1:] if text.startswith("-") else text
-    # Long rows are turned away unread: Python's own int refuses very long ones.
-    if bare == "" or len(bare) > MOST_FIGURES:
-        return None
-    for sign in bare:
-        if sign not in FIGURES:
-            return None
-    number = int(text)
-    # A nought ahead, and a - ahead of 0, would not be written so again.
-    return number if str(number) == text else None
 
 
 def step_of(width, row):

@@ -3,7 +3,10 @@
 import itertools
 import unittest
 
+from hostturn.codes import step_at
 from hostturn.guest import Guest
+from hostturn.house import run_rows
+from hostturn.plain import step
 from hostturn.steps import (
     Add, AddC, AddK, And, Cmp, CmpK, Copy, Fewer, Get, Go, Jump, JumpIf, Left, Mark, More, Not,
     Or, Put, Right, Send, Set, Stop, Sub, SubC, Xor,
@@ -35,6 +38,22 @@ ROW_FORMS = (
     ("stop", "np"),
 )
 ENDS = ("leave", "part", "go", "stop")
+ROW_PARTS = dict(ROW_FORMS)
+WRITING = ("put", "copy", "not", "left", "right", "add", "sub", "and", "or", "xor", "mark")
+
+# Codes with steps that hang on one another, at places here and there.
+CODES = (
+    (0, ("more 1", "jumpif 0 5")),
+    (9, ("add 1 2", "addc 3 4", "jumpif 4 -9")),
+    (20, ("put 1 40", "set 2 1 -3", "get 3 1 -3", "send 3", "stop")),
+    (30, ("get 1 2 5", "addk 1 -1", "set 1 2 5", "jump -8")),
+    (100, ("set 1 2 0", "set 3 4 1", "get 5 2 0", "go 5")),
+    (77, ("cmpk 1 7", "mark 2 2", "fewer 2", "subc 2 3", "send 2", "jumpif 7 127")),
+    (5, ("xor 1 1", "left 2", "right 3", "not 4", "and 5 6", "or 6 7")),
+    (240, ("copy 1 2", "send 1", "sub 1 3", "send 1", "cmp 1 2", "go 1")),
+    (128, ("put 7 3", "addk 7 4", "send 7", "mark 6 5")),
+    (64, ("send 0", "send 1", "get 0 0 0", "stop")),
+)
 
 
 def greatest(sort, width):
@@ -136,6 +155,112 @@ def drawn_guest(draw, width, code, place):
     wards = [draw.randrange(16) for turn in range(draw.choice((0, 0, 1, 5)))]
     marks = tuple(draw.randrange(2) for turn in range(4))
     return Guest(width, floor, boxes, marks, wards, place)
+
+
+def wanted_end(guest, many, watch):
+    """The plain steps of a code are done, many of them at most, as far as its rows may go: how rows end."""
+    for n in range(many):
+        found = step_at(guest.width, guest.floor, guest.place)
+        address = None
+        if found.word() == "set":
+            address = (guest.boxes[found.numbers[1]] + found.numbers[2]) % 2 ** guest.width
+        word = step(guest)
+        if word != "on":
+            return word, n, guest.place
+        if address is not None and watch(address):
+            return "on", n + 1, guest.place
+    return "on", many, guest.place
+
+
+def comes_out(rows, many, guest, watch):
+    """True where the rows, run at this guest, end as the steps of the code do, and it stands alike."""
+    plain, other = guest.twin(), guest.twin()
+    end = wanted_end(plain, many, watch)
+    return run_rows(other, rows, watch) == end and other.stand() == plain.stand()
+
+
+def drawn_watch(draw, code, place):
+    """A watch that says yes for each address of the code, and perhaps for others."""
+    yes = set(range(place, place + len(code)))
+    yes.update(draw.randrange(256) for turn in range(draw.choice((0, 0, 3, 100))))
+    if draw.randrange(8) == 0:
+        yes.update(range(256))
+    return yes.__contains__
+
+
+def drawn_filler(draw, width, boxes):
+    """A row that writes none but these boxes, and asks for any."""
+    word = draw.choice(WRITING)
+    asked = [*range(16), *boxes, *boxes]
+    parts = {"b": asked, "K": edges(width), "a": range(8)}
+    return (word, draw.choice(boxes)) + tuple(draw.choice(parts[sort]) for sort in ROW_PARTS[word][1:])
+
+
+def with_fillers(draw, width, rows, many):
+    """The rows with so many put in ahead of the last one."""
+    boxes = draw.sample(range(10, 15), draw.randrange(1, 6))
+    told = list(rows)
+    for turn in range(many):
+        told.insert(draw.randrange(len(told)), drawn_filler(draw, width, boxes))
+    return told
+
+
+def program_text(draw, width, place, starts):
+    """A drawn step: boxes 0 to 3 are addresses, 4 to 7 are what is written, often a step of one byte."""
+    address, byte = draw.randrange(4), draw.randrange(4, 8)
+    back = [start for start in starts if place + 2 - start <= 128]
+    return draw.choice((
+        *[f"{word} {byte}" for word in ("more", "fewer", "left", "right", "not", "send")],
+        *[f"set {byte} {address} {draw.randrange(-9, 10)}"] * 3,
+        f"get {byte} {address} {draw.randrange(-3, 4)}",
+        f"put {address} {draw.randrange(256)}",
+        f"put {address} {min(place + draw.randrange(9), 255)}",
+        f"put {byte} {draw.choice((104, 112, 120, 136, 160, 168)) + draw.randrange(4, 8)}",
+        f"addk {address} {draw.randrange(-3, 4)}",
+        f"cmpk {byte} {draw.randrange(-3, 4)}",
+        f"jump {draw.choice(back) - place - 2}" if back and draw.randrange(3) == 0 else f"more {address}",
+        f"jumpif {draw.randrange(8)} {draw.choice(back) - place - 2}" if back else "jump 0",
+        drawn_text(draw, width, draw.randrange(9) == 0),
+    ))
+
+
+def drawn_program(draw, width):
+    """A drawn guest with steps all over its floor; many of them write, often over the steps themselves."""
+    floor, starts = [], []
+    while len(floor) < 256:
+        starts.append(len(floor))
+        floor += code_of(width, program_text(draw, width, len(floor), starts))
+    boxes = [draw.randrange(256) for turn in range(4)] + [104 + draw.randrange(40) for turn in range(4)]
+    wards = [draw.randrange(16)] if draw.randrange(4) == 0 else None
+    place = draw.choice([start for start in starts if start < 256])
+    return Guest(width, floor[:256], boxes, tuple(draw.randrange(2) for turn in range(4)), wards, place)
+
+
+def wrong_codes(width):
+    """Codes that aren't right, with their places: of other kinds, no steps, cut off, too long, beyond the floor."""
+    for code in (None, 0, True, "", "stop", (), (0,), {}, {0: 0}, b"\0", 1.5, object(), []):
+        yield 0, code
+    for byte in (256, -1, 1000, None, True, False, "0", 0.0, [0], (0,), *range(200, 256), *range(1, 8), 169, 175):
+        yield 0, [byte]
+        yield 0, [104, byte]
+        yield 5, [byte, 0]
+        yield 5, [104, byte, 0, 0]
+    for number, (kind, word, form) in enumerate(FORMS):
+        code = code_of(width, " ".join([word, *["1"] * len(form)]))
+        for size in range(1, len(code)):
+            yield 0, code[:size]
+            yield 0, [104] + code[:size]
+            yield 256 - size, code[:size]
+        yield 0, code + [255]
+        yield 257 - len(code), code
+        yield 300, code
+        yield -1, code
+        if "s" in form:
+            yield 0, [8 * number, 8] + [0] * (len(form) - 2)
+        if word in LAST_WORDS:
+            for behind in ("stop", "more 1", "jump 0", "put 1 1"):
+                yield 0, code + code_of(width, behind)
+                yield 9, [104] + code + code_of(width, behind)
 
 
 class Whole(unittest.TestCase):

@@ -5,81 +5,14 @@ import random
 import unittest
 
 from hostturn.checker import shown
-from hostturn.codes import step_at
 from hostturn.guest import Guest
-from hostturn.house import check_rows, run_rows
-from hostturn.plain import step
+from hostturn.house import check_rows
 from hostturn.plainrows import plain_rows
 from hostturn.words import KINDS
 from samples import (
-    FORMS, LAST_WORDS, ROW_FORMS, WIDTHS, choices, code_of, drawn_guest, drawn_text, drawn_texts, edges,
-    floor_with, greatest, is_whole,
+    CODES, FORMS, LAST_WORDS, ROW_FORMS, ROW_PARTS, WIDTHS, WRITING, choices, code_of, comes_out, drawn_filler,
+    drawn_guest, drawn_text, drawn_texts, drawn_watch, edges, floor_with, greatest, is_whole, with_fillers,
 )
-
-ROW_PARTS = dict(ROW_FORMS)
-WRITING = ("put", "copy", "not", "left", "right", "add", "sub", "and", "or", "xor", "mark")
-
-# Codes with steps that hang on one another, at places here and there.
-CODES = (
-    (0, ("more 1", "jumpif 0 5")),
-    (9, ("add 1 2", "addc 3 4", "jumpif 4 -9")),
-    (20, ("put 1 40", "set 2 1 -3", "get 3 1 -3", "send 3", "stop")),
-    (30, ("get 1 2 5", "addk 1 -1", "set 1 2 5", "jump -8")),
-    (100, ("set 1 2 0", "set 3 4 1", "get 5 2 0", "go 5")),
-    (77, ("cmpk 1 7", "mark 2 2", "fewer 2", "subc 2 3", "send 2", "jumpif 7 127")),
-    (5, ("xor 1 1", "left 2", "right 3", "not 4", "and 5 6", "or 6 7")),
-    (240, ("copy 1 2", "send 1", "sub 1 3", "send 1", "cmp 1 2", "go 1")),
-    (128, ("put 7 3", "addk 7 4", "send 7", "mark 6 5")),
-    (64, ("send 0", "send 1", "get 0 0 0", "stop")),
-)
-
-
-def wanted_end(guest, many, watch):
-    """The plain steps of a code are done, many of them at most, as far as its rows may go: how rows end."""
-    for n in range(many):
-        found = step_at(guest.width, guest.floor, guest.place)
-        address = None
-        if found.word() == "set":
-            address = (guest.boxes[found.numbers[1]] + found.numbers[2]) % 2 ** guest.width
-        word = step(guest)
-        if word != "on":
-            return word, n, guest.place
-        if address is not None and watch(address):
-            return "on", n + 1, guest.place
-    return "on", many, guest.place
-
-
-def comes_out(rows, many, guest, watch):
-    """True where the rows, run at this guest, end as the steps of the code do, and it stands alike."""
-    plain, other = guest.twin(), guest.twin()
-    end = wanted_end(plain, many, watch)
-    return run_rows(other, rows, watch) == end and other.stand() == plain.stand()
-
-
-def drawn_watch(draw, code, place):
-    """A watch that says yes for each address of the code, and perhaps for others."""
-    yes = set(range(place, place + len(code)))
-    yes.update(draw.randrange(256) for turn in range(draw.choice((0, 0, 3, 100))))
-    if draw.randrange(8) == 0:
-        yes.update(range(256))
-    return yes.__contains__
-
-
-def drawn_filler(draw, width, boxes):
-    """A row that writes none but these boxes, and asks for any."""
-    word = draw.choice(WRITING)
-    asked = [*range(16), *boxes, *boxes]
-    parts = {"b": asked, "K": edges(width), "a": range(8)}
-    return (word, draw.choice(boxes)) + tuple(draw.choice(parts[sort]) for sort in ROW_PARTS[word][1:])
-
-
-def with_fillers(draw, width, rows, many):
-    """The rows with so many put in ahead of the last one."""
-    boxes = draw.sample(range(10, 15), draw.randrange(1, 6))
-    told = list(rows)
-    for turn in range(many):
-        told.insert(draw.randrange(len(told)), drawn_filler(draw, width, boxes))
-    return told
 
 
 class Checker(unittest.TestCase):
